@@ -1,0 +1,1 @@
+"""Parts tested beside stand-ins, and what that says of the whole."""
