@@ -28,6 +28,7 @@ class Errors(unittest.TestCase):
             for value in ODD_VALUES:
                 with self.subTest(name, value=value):
                     self.assertIs(getattr(errors, name)(value).value, value)
+                    self.assertIs(getattr(errors, name)(value=value).value, value)
 
     def test_they_take_one_argument(self):
         for name in NAMES:

@@ -1,7 +1,9 @@
 import unittest
 from itertools import product
+from random import Random
 
 from tests.helping import ODD_VALUES, exactly, told
+from tests.plainparts import plain_answered, plain_called
 from truestandins.inners import answered, called, first_inner
 from truestandins.parts import Part
 
@@ -192,6 +194,51 @@ class Whiles(unittest.TestCase):
         part = part_of(2, "if it = 0", "  ask p x 0", "  set a got", "else", "  ask p x 1", "  add a got", "answer a")
         self.assertEqual(answered(part, ((1,), (4, 0)), 0), (gives(0, 0),))
         self.assertEqual(answered(part, ((1,), (7, 0)), 0), (gives(1, 1),))
+
+
+def some_block(random, depth, left):
+    """Lines of statements that stand so deep, by chance; left counts how many there may be yet."""
+    rows = []
+    for _ in range(random.randrange(1, 4)):
+        words = ["set a E", "add b E", "draw a", "draw b", "ask p x E", "ask q y E", "ask p y E", "answer E", "fail"]
+        words += ["if C", "while C"] * 4 if depth < 3 and left[0] > 5 else []
+        row = random.choice(words)
+        left[0] -= 1
+        row = row.replace("C", random.choice(("lost", "busy", "E = E", "E != E", "it = E", "a != E", "got = E")))
+        for _ in range(row.count("E")):
+            row = row.replace("E", random.choice(("a", "b", "it", "got", "0", "1")), 1)
+        rows.append("  " * depth + row)
+        if row.startswith("while"):
+            rows.append("  " * depth + "  ask p x a")
+            left[0] -= 1
+        if row.startswith(("if", "while")):
+            rows += some_block(random, depth + 1, left)
+        if row.startswith("if") and left[0] > 3 and random.randrange(2):
+            rows += ["  " * depth + "else"] + some_block(random, depth + 1, left)
+        if left[0] <= 3:
+            break
+    return rows
+
+
+class Plainly(unittest.TestCase):
+    def test_all_inners_of_many_parts(self):
+        random = Random(5)
+        asks = 0
+        for _ in range(250):
+            worths, left = random.randrange(2, 4), [22]
+            rows = ["cell a 0", "cell b 1", "port p", "port q", "door x"] + some_block(random, 1, left)
+            if left[0] > 8:
+                rows += ["door y"] + some_block(random, 1, left)
+            part = Part(worths, "\n".join(rows))
+            for cells, it in product(product(range(worths), repeat=2), range(worths)):
+                for door in part.doors:
+                    self.assertEqual(called(part, (cells, ()), door, it), plain_called(part, (cells, ()), door, it), rows)
+                for line in (line for line, row in enumerate(rows) if row.strip().startswith("ask")):
+                    asks += 1
+                    for answer in range(-2, worths):
+                        inner = (cells, (line, it))
+                        self.assertEqual(answered(part, inner, answer), plain_answered(part, inner, answer), rows)
+        self.assertGreater(asks, 1000)
 
 
 class Busy(unittest.TestCase):

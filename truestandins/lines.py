@@ -28,6 +28,15 @@ class Lines:
         """Whether the next line is not indented and begins with this word."""
         return self.words(0)[:1] == [word]
 
+    def below(self):
+        """The lines that belong to the next line, without the blanks by which they are deeper."""
+        rows = []
+        for row in self.rows[self.at + 1:]:
+            if not row.startswith("  "):
+                break
+            rows.append(row[2:])
+        return rows
+
     def step(self):
         self.at += 1
 
