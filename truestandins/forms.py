@@ -39,3 +39,10 @@ def is_tuple(value, size):
 def ascends(rows):
     """Whether rows, which can be compared, are sorted and without duplicates."""
     return all([rows[at] < rows[at + 1] for at in range(len(rows) - 1)])
+
+
+def is_plain(value):
+    """Whether it is made of tuples, strings and integers alone, so that == tells their kinds, too."""
+    if isinstance(value, tuple):
+        return all([is_plain(item) for item in value])
+    return isinstance(value, str) or is_integer(value)

@@ -1,6 +1,6 @@
 """Pacts: which calls may come over a wire, and which answers may be given."""
 
-from truestandins.errors import BadPact, BadWord, BadWorths
+from truestandins.errors import BadPact, BadWord, BadWorths, TooMany
 from truestandins.forms import ascends, is_answer, is_below, is_door, is_tuple, is_worths
 
 MOST_STATES = 400
@@ -84,6 +84,11 @@ def least_pact(pact):
     """The pact of fewest states that lets the same words."""
     if not is_pact(MOST_WORTHS, pact):
         raise BadPact(pact)
+    return least_of(pact)
+
+
+def least_of(pact):
+    """As least_pact, of what is no pact by the number of its states alone; all of them are met."""
     kinds = kinds_of_states(pact)
     # Of each kind the state by which it is met first.
     met = {kinds[0]: 0}
@@ -112,6 +117,8 @@ def kinds_of_states(pact):
             known.setdefault(shape, len(known))
         kinds = [known[shape] for shape in shapes]
         fresh = len(known)
+        if fresh > MOST_STATES:
+            raise TooMany(MOST_STATES)
     return kinds
 
 

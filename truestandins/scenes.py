@@ -4,25 +4,28 @@ A scene is (inner, opens, asked, coming, states).
 """
 
 from truestandins.forms import is_answer, is_below, is_tuple
-from truestandins.inners import answered, called, first_inner, is_inner, put
-from truestandins.pacts import outcomes_of, state_behind
+from truestandins.inners import answered, called, first_inner, is_inner
+from truestandins.pacts import outcomes_of
+from truestandins.wired import Wired
 
 CALL_CAME = ("call",)
 NOT_LET = ()
 
 
-class Bench:
+class Bench(Wired):
     """A part of a system beside the pacts of its wires.
 
     inward are the wires to the part; amid tells, by the user of the call
     that is open and the port that was asked, over which of them calls can come.
+    known are the moves at all scenes that were asked for.
     """
 
     def __init__(self, system, name):
         self.subject = system.part(name)
         self.name = name
-        self.wires = tuple(wire for wire in system.wires if name in (wire[0], system.offerer(wire)))
-        self.pacts = tuple(system.pact(wire) for wire in self.wires)
+        wires = tuple(wire for wire in system.wires if name in (wire[0], system.offerer(wire)))
+        Wired.__init__(self, system, wires)
+        self.known = {}
         self.inward = tuple(wire for wire in self.wires if wire[0] != name)
         self.amid = {
             (wire[0], port): wires_amid(system, name, self.inward, wire[0], port)
@@ -35,6 +38,16 @@ class Bench:
 
     def moves(self, scene):
         """All (event, scene behind it) that can come at a scene; behind an event that is not let it is ()."""
+        if scene not in self.known:
+            self.known[scene] = self.fresh_moves(scene)
+        return self.known[scene]
+
+    def item(self, scene, event):
+        """The item to which an event that can come at a scene comes."""
+        _, opens, asked, coming, states = scene
+        return self.item_of(states, event, opens[-1] if coming else asked)
+
+    def fresh_moves(self, scene):
         _, opens, asked, coming, _ = scene
         if coming:
             return self.own_moves(scene)
@@ -75,23 +88,12 @@ class Bench:
         _, opens, asked, _, states = scene
         if deed[0] == "asks":
             _, port, door, worth = deed
-            wire = (self.name, port)
-            is_let = outcomes_of(self.state(states, wire), door, worth) != ()
-            later = (inner, opens, (wire, door, worth), (), states)
-            return (wire, "call", door, worth), later if is_let else NOT_LET
-        wire, door, worth = opens[-1]
-        number = state_behind(self.state(states, wire), door, worth, deed[1])
-        if number is None:
-            return (wire, "answer", deed[1]), NOT_LET
-        return (wire, "answer", deed[1]), (inner, opens[:-1], asked, (), self.moved(states, wire, number))
-
-    def state(self, states, wire):
-        """The state in which the pact of a wire is."""
-        at = self.wires.index(wire)
-        return self.pacts[at][states[at]]
-
-    def moved(self, states, wire, number):
-        return put(states, self.wires.index(wire), number)
+            call = ((self.name, port), door, worth)
+            later = (inner, opens, call, (), states) if self.lets(states, call) else NOT_LET
+            return (call[0], "call", door, worth), later
+        behind = self.states_behind(states, opens[-1], deed[1])
+        later = NOT_LET if behind is None else (inner, opens[:-1], asked, (), behind)
+        return (opens[-1][0], "answer", deed[1]), later
 
     def is_scene(self, value):
         """Whether any value is a scene of the part by its form."""
@@ -109,11 +111,6 @@ class Bench:
         if coming == ():
             return self.is_asked(inner, asked)
         return asked == () and self.is_answer_come(coming)
-
-    def are_states(self, value):
-        if not is_tuple(value, len(self.wires)):
-            return False
-        return all([is_below(number, len(pact)) for number, pact in zip(value, self.pacts)])
 
     def are_open(self, value):
         """Whether it is a tuple of at most two calls to the part."""
