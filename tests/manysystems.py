@@ -3,7 +3,9 @@
 from random import Random
 
 from truestandins.errors import BadText, WireError
+from truestandins.inners import called
 from truestandins.keeping import keeps
+from truestandins.parts import Part
 from truestandins.systems import System
 
 # Who asks whom: a line, two at one, one at two over two ports, rings of two and three, a ring with somebody beside it.
@@ -116,3 +118,79 @@ def kept_systems(many, first=0):
             found.append(system)
         seed += 1
     return found
+
+
+def other_edition(draw, part):
+    """The part with a line or some changed: mostly it draws less, or more, or gives other answers."""
+    while True:
+        # What it is changed to may be no text of a part.
+        rows = part.text.split("\n")
+        for _ in range(draw.randint(1, 2)):
+            at = draw.randrange(len(rows))
+            rows[at] = changed_row(draw, rows[at])
+        try:
+            return Part(part.worths, "\n".join(row for row in rows if row))
+        except BadText:
+            continue
+
+
+def changed_row(draw, row):
+    words = row.split()
+    margin = row[:len(row) - len(row.lstrip())]
+    if words[0] == "draw":
+        return f"{margin}set {words[1]} {draw.randint(0, 1)}"
+    if words[0] == "set":
+        return f"{margin}draw {words[1]}" if draw.random() < 0.5 else f"{margin}set {words[1]} {draw.randint(0, 1)}"
+    if words[0] in ("answer", "fail"):
+        return margin + draw.choice(["answer 0", "answer 1", "answer it", "fail"])
+    if words[0] == "cell":
+        return f"cell {words[1]} {draw.randint(0, 1)}"
+    if words[0] == "ask":
+        return f"{margin}ask {words[1]} {words[2]} {draw.choice(['0', '1', 'it', words[3]])}"
+    if words[0] in ("if", "while") and len(words) == 4:
+        return f"{margin}{words[0]} {words[1]} {'!=' if words[2] == '=' else '='} {words[3]}"
+    return row
+
+
+def telling_systems(many, first=0):
+    """Systems with a part whose pact tells by its states what it has in its cells; some with somebody who asks it."""
+    found = []
+    seed = first
+    while len(found) < many:
+        draw = Random(seed)
+        seed += 1
+        rows = part_rows(draw, DOORS, {}, {})
+        try:
+            pact = telling_pact(Part(2, "\n".join(rows)))
+        except BadText:
+            continue
+        if pact.count("state") < 2:
+            continue
+        lines = ["worths 2", "part a"] + ["  " + row for row in rows]
+        if draw.random() < 0.5:
+            lines += ["part u", "  port p"]
+            for door in DOORS:
+                lines += [f"  door {door}", f"    ask p {door} it", "    if lost", "      fail", "    answer got"]
+            every = pact.replace("busy", "lost")
+            lines += ["wire u p a"] + ["  " + row for row in every.split("\n")]
+            lines += ["outer u"] + ["  " + row for row in every.split("\n")]
+        else:
+            lines += ["outer a"] + ["  " + row for row in pact.split("\n")]
+        found.append(System("\n".join(lines)))
+    return [system for system in found if keeps_all(system)]
+
+
+def telling_pact(part):
+    """The text of a pact that lets what a part without ports does, wherever the answer tells its cells."""
+    cells = [tuple(worth for _, worth in part.cells)]
+    rows = []
+    for now in cells:
+        rows.append(f"state {cells.index(now)}")
+        for door in part.doors:
+            for worth in range(part.worths):
+                behind = [(deed[1], inner[0]) for deed, inner in called(part, (now, ()), door, worth)]
+                if len(dict(behind)) == len(behind):
+                    cells += [later for later in dict.fromkeys(later for _, later in behind) if later not in cells]
+                    shown = ", ".join(f"{'lost' if answer < 0 else answer} {cells.index(later)}" for answer, later in behind)
+                    rows.append(f"  {door} {worth} -> {shown}")
+    return "\n".join(rows)

@@ -24,6 +24,27 @@ ROUND = System(
     "outer b\n  state 0\n    x 0 -> any 0, lost 0")
 
 
+# A ring of two in which all is let, also of the outside that calls the second one.
+BUSY_RING = System(
+    "worths 2\npart a\n  port p\n  door x\n    ask p x it\n    answer got\npart b\n  port p\n  door x\n    ask p x it\n"
+    "    answer got\nwire a p b\n  state 0\n    x any -> any 0, lost 0, busy 0\nwire b p a\n  state 0\n"
+    "    x any -> any 0, lost 0, busy 0\nouter a\n  state 0\n    x any -> any 0, lost 0, busy 0\nouter b\n  state 0\n"
+    "    x any -> any 0, lost 0, busy 0")
+
+
+def endless(name, port, other):
+    """A part that asks one over its port again and again, and an all-letting wire."""
+    part = f"part {name}\n  port {port}\n  door x\n    ask {port} x 0\n    while got = got\n      ask {port} x 0\n"
+    return part, f"wire {name} {port} {other}\n  state 0\n    x any -> any 0, lost 0, busy 0\n"
+
+
+# Nobody in these rings of three, two of which ask for ever, is ever answered for good.
+LOOP = [endless("a", "p", "b"), endless("b", "p", "c"), (
+    "part c\n  port p\n  door x\n    ask p x it\n    answer got\n", "wire c p a\n  state 0\n    x any -> any 0, lost 0, busy 0\n")]
+LOOP = System("worths 2\n" + "".join(part for part, _ in LOOP) + "".join(wire for _, wire in LOOP)
+              + "outer a\n  state 0\n    x any -> any 0")
+
+
 def counter(rows, worths=4):
     """A part that answers 0, beside an outer pact: a ring of states, of each the number of its rows."""
     doors = "".join(f"  door {door}\n    answer 0\n" for door in "abc")
@@ -255,7 +276,9 @@ class ShowsTables(unittest.TestCase):
                     moments, events = None, None
                 right = plainwhole.is_moment(system, moment)
                 if not right:
+                    # Neither it alone nor with all that would come from it.
                     self.no(system, tuple(sorted(least | {moment})))
+                    self.no(system, tuple(sorted(moments or ())))
                 elif events is None and moments is not None:
                     # All that comes from a moment by its form has the form as well, if it keeps.
                     formed = all(plainwhole.is_moment(system, later) for later in moments)
@@ -276,9 +299,19 @@ class ShowsTables(unittest.TestCase):
         self.assertEqual(len(later), 2)
         self.no(system, later)
 
-    def test_every_moment_by_its_form(self):
-        found = {True: 0, False: 0}
+    def test_calls_by_their_form(self):
         for system in (RING, ROUND):
+            first = plainwhole.first_moment(system)
+            door = system.part("a").doors[0]
+            for call in ((("", "zz"), door, 0), (("a", "zz"), door, 0), (("", "a"), "zz", 0),
+                         (("", "a"), door, 2), (("", "a"), door, -1), (("", "a"), door), (("", "a"), door, 0, 0), (0, door, 0)):
+                table, moment = whole(system)[1], (first[0], (call,), (), first[3])
+                for at in range(len(table) + 1):
+                    self.no(system, table[:at] + (moment,) + table[at:])
+
+    def test_every_moment_by_its_form(self):
+        found, closed = {True: 0, False: 0}, 0
+        for system in (RING, ROUND, BUSY_RING, LOOP):
             least = plainwhole.kept_or_broken(system)[0]
             inners = list(product(*[[((), ()), ((), (2, 0)), ((), (2, 1))] for _ in system.parts]))
             wires = [("", "a")] + [wire for wire in system.wires if wire[0]]
@@ -286,15 +319,18 @@ class ShowsTables(unittest.TestCase):
             stacks = [()] + [tuple(stack) for many in (1, 2, 3) for stack in product(calls[::2] + calls[1:2], repeat=many)]
             stacks += [(calls[0], calls[2], calls[4], calls[-2]), (calls[0], calls[2], calls[4], calls[-2], calls[2])]
             givens = [(), (wires[1], 0), (wires[-1], -2), (("", "a"), 0)]
-            for inner, stack, given in product(inners[::2], stacks, givens):
+            for inner, stack, given in product(inners[::2] + inners[13:14], stacks, givens):
                 moment = (inner, stack, given, (0,) * len(system.wires))
                 right = plainwhole.is_moment(system, moment)
                 found[right] += 1
-                table = least | {moment}
-                if right:
+                try:
                     table, events = plainwhole.kept_or_broken(system, [moment])
-                    right = events is None and all(plainwhole.is_moment(system, later) for later in table)
+                    closed += not right and events is None
+                except (KeyError, ValueError, IndexError, TypeError):
+                    table, events = least | {moment}, None
+                right = right and events is None and all(plainwhole.is_moment(system, later) for later in table)
                 self.assertIs(shows_whole(system, ("kept", tuple(sorted(table)))), right, moment)
+        self.assertGreater(closed, 50)
         self.assertGreater(found[True], 20)
         self.assertGreater(found[False], 500)
 

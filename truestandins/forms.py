@@ -46,3 +46,12 @@ def is_plain(value):
     if isinstance(value, tuple):
         return all([is_plain(item) for item in value])
     return isinstance(value, str) or is_integer(value)
+
+
+def is_like(value, known):
+    """Whether any value is a tuple of integers, strings and tuples, in their kinds, too."""
+    if isinstance(known, tuple):
+        if not isinstance(value, tuple) or len(value) != len(known):
+            return False
+        return all([is_like(one, other) for one, other in zip(value, known)])
+    return is_integer(value) == is_integer(known) and value == known

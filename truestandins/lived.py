@@ -1,11 +1,11 @@
 """Rows of pacts that the real parts never come to."""
 
-from truestandins.forms import is_integer, is_tuple
+from truestandins.forms import is_integer, is_like, is_tuple
 from truestandins.items import items_of, moves_beside, producer
 from truestandins.keeping import are_scenes, need_kept
 from truestandins.moments import Stage
 from truestandins.scenes import Bench
-from truestandins.searching import MOST_MEMBERS, is_closed, is_like, members_along, run_to, search
+from truestandins.searching import MOST_MEMBERS, is_closed, members_along, run_to, search
 
 WORDS = ("whole", "needed", "spare")
 

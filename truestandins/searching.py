@@ -1,7 +1,7 @@
 """What comes from first members on, runs of fewest events, and what any value shows of these."""
 
 from truestandins.errors import TooMany
-from truestandins.forms import is_integer
+from truestandins.forms import is_like
 
 MOST_MEMBERS = 4000
 
@@ -70,12 +70,3 @@ def members_behind(members, moves, value):
             if value == event and is_like(value, event):
                 found[later] = True
     return list(found)
-
-
-def is_like(value, known):
-    """Whether any value is a tuple of integers, strings and tuples, in their kinds, too."""
-    if isinstance(known, tuple):
-        if not isinstance(value, tuple) or len(value) != len(known):
-            return False
-        return all([is_like(one, other) for one, other in zip(value, known)])
-    return is_integer(value) == is_integer(known) and value == known
