@@ -26,6 +26,18 @@ def round_trip(many, counts=False, worths=2):
     return System("\n".join(rows) + "\nouter a\n  state 0\n    x 0 -> 0 0")
 
 
+def counted(ahead):
+    """a passes calls on and counts them up to 4, b's pact is a ring of 199 states behind some others.
+
+    So there are ahead + 4 * 199 places and one where nobody is, each with 4 calls: 5 nodes.
+    """
+    rows = ["worths 4\npart a\n  cell n 0\n  port p\n  door x\n    add n 1\n    ask p x it\n    answer got\npart b\n"
+            "  door x\n    answer it\nwire a p b"]
+    for at in range(ahead + 199):
+        rows.append(f"  state {at}\n    x {int(at == ahead)} -> any {at + 1 if at < ahead + 198 else ahead}")
+    return System("\n".join(rows) + "\nouter a\n  state 0\n    x 0 -> 0 0")
+
+
 def some_systems():
     return [SYSTEM, TIGHT, STRICT, RING, ROUND] + [random_system(seed, 0.8) for seed in range(60)]
 
@@ -106,6 +118,19 @@ class Tables(unittest.TestCase):
         self.assertEqual(loose(system=RING), loose(RING))
         found = weakest(RING, ("a", "q"))
         self.assertIs(shows_weakest(system=RING, wire=("a", "q"), value=found), True)
+
+
+class NothingLeft(unittest.TestCase):
+    def test_no_call_is_let_but_none_is_made_either(self):
+        # The second call would be asked where nothing is let: so a word of one call ends the pact, and is right.
+        system = System(
+            "worths 2\npart a\n  port p\n  door x\n    ask p x 0\n    answer got\npart b\n  door x\n    answer it\n"
+            "wire a p b\n  state 0\n    x 0 -> any 1\n  state 1\nouter a\n  state 0\n    x 0 -> 0 0")
+        word, pact, table = weakest(system, ("", "a"))
+        self.assertEqual(show_pact(pact), (
+            "state 0\n  x 0 -> 0 2, 1 2, lost 1, busy 1\n  x 1 -> 0 2, 1 2, lost 1, busy 1\nstate 1\n"
+            "  x 0 -> 0 1, 1 1, lost 1, busy 1\n  x 1 -> 0 1, 1 1, lost 1, busy 1\nstate 2"))
+        self.assertEqual((word, table), ("pact", Plain(system, ("", "a")).table()))
 
 
 class StandIns(unittest.TestCase):
@@ -224,6 +249,16 @@ class Errors(unittest.TestCase):
                 self.assertIs(shows_weakest(system, wire, found), True)
             else:
                 self.assertEqual(found, ("TooMany", 400))
+
+    def test_4000_nodes_and_more(self):
+        wire = ("", "a")
+        word, pact, table = weakest(counted(3), wire)
+        self.assertEqual((word, len(pact), len(table)), ("pact", 200, 4000))
+        self.assertEqual(stand_in(counted(3), wire), pact)
+        self.assertIs(shows_weakest(counted(3), wire, (word, pact, table)), True)
+        for call in (weakest, stand_in):
+            self.assertEqual(told(lambda: call(counted(4), wire)), ("TooMany", 4000))
+        self.assertIs(shows_weakest(counted(4), wire, (word, pact, table)), False)
 
     def test_4000_goes_ahead_of_400(self):
         system = round_trip(400, True, 3)
@@ -379,6 +414,22 @@ class Shows(unittest.TestCase):
                     if pact != found[1]:
                         self.no(system, wire, ("pact", pact, found[2]))
                 self.no(system, wire, ("pact", list(found[1]), found[2]))
+
+    def test_more_than_400_states(self):
+        system, wire = round_trip(400), ("", "a")
+        table = Plain(system, wire).table()
+        self.assertEqual(table[0][3], -1)
+        for pact in ((), ((),), system.pact(wire), system.pact(("a", "p"))):
+            self.no(system, wire, ("pact", pact, table))
+        self.no(system, wire, ("none", table))
+
+    def test_more_members(self):
+        for system, wire, found in self.cases:
+            for at in range(len(found) + 1):
+                self.no(system, wire, found[:at] + ((),) + found[at:])
+            if found[0] == "none":
+                for pact in some_pacts(system, wire):
+                    self.no(system, wire, ("pact", pact, found[1]))
 
     def test_of_another_wire(self):
         self.no(SYSTEM, PAY, weakest(SYSTEM, FILL))

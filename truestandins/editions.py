@@ -50,7 +50,8 @@ def pair_moves(elder, newer, pair):
         laters = {}
         for other in fitting:
             for deed, later in deeds_behind(elder, other, comes):
-                laters.setdefault(deed, {})[later] = True
+                alike = laters.setdefault(deed, {})
+                alike[later] = True
         for deed, later in deeds_behind(newer, inner, comes):
             behind = (later, tuple(sorted(laters[deed]))) if deed in laters else ()
             found.append(((comes, deed), behind))

@@ -64,8 +64,9 @@ class Nodes:
             at += 1
             if self.is_broken(node):
                 continue
-            nexts[node] = self.all_behind(node)
-            for later in list(nexts[node].values()):
+            behind = self.all_behind(node)
+            nexts[node] = behind
+            for later in behind.values():
                 if later not in nexts:
                     nexts[later] = {}
                     queue.append(later)

@@ -38,7 +38,8 @@ class Side:
         queue = list(met)
         at = 0
         while at < len(queue):
-            for event, later in self.bench.moves(queue[at]):
+            moves = self.bench.moves(queue[at])
+            for event, later in moves:
                 if event[0] != self.wire and later != () and later not in met:
                     met[later] = True
                     queue.append(later)

@@ -43,18 +43,18 @@ def states_let(nodes, lets):
     queue = list(numbers)
     states = []
     while len(states) < len(queue):
+        calls = nodes.all_behind(queue[len(states)])
         rows = []
-        for (door, worth), called in nodes.all_behind(queue[len(states)]).items():
-            outcomes = []
-            behind = nodes.all_behind(called) if lets(called) else {}
-            for answer, later in behind.items():
-                if lets(later):
-                    if later not in numbers:
-                        numbers[later] = len(queue)
-                        queue.append(later)
-                    outcomes.append((answer, numbers[later]))
-            if outcomes:
-                rows.append((door, worth, tuple(outcomes)))
+        for door, worth in calls:
+            called = calls[door, worth]
+            answers = nodes.all_behind(called) if lets(called) else {}
+            let = {answer: answers[answer] for answer in answers if lets(answers[answer])}
+            for later in let.values():
+                if later not in numbers:
+                    numbers[later] = len(queue)
+                    queue.append(later)
+            if let:
+                rows.append((door, worth, tuple((answer, numbers[let[answer]]) for answer in let)))
         states.append(tuple(rows))
     return tuple(states)
 
@@ -74,9 +74,10 @@ def shows_weakest(system, wire, value):
     if ranks[nodes.first()] != NOT_BAD:
         return False
     try:
-        return value[1] == least_of(states_let(nodes, lambda node: ranks.get(node) == NOT_BAD))
+        pact = least_of(states_let(nodes, lambda node: ranks[node] == NOT_BAD))
     except TooMany:
         return False
+    return value[1] == pact
 
 
 def ranks_told(nodes, table):
@@ -87,7 +88,7 @@ def ranks_told(nodes, table):
     ranks = nodes_wanted(nodes, wanted)
     if len(wanted) < len(table) or len(ranks) < len(wanted) or nodes.first() not in ranks:
         return {}
-    return ranks if ascends(table) and min([row[3] for row in table]) >= NOT_BAD else {}
+    return ranks if ascends(table) else {}
 
 
 def nodes_wanted(nodes, wanted):
