@@ -4,7 +4,7 @@ from itertools import product
 from tests import plainly
 from tests.helping import ODD_VALUES, exactly, told
 from tests.manysystems import kept_systems, random_system
-from tests.plainweakest import Beside, Plain, calls_over
+from tests.plainweakest import Beside, Plain, calls_over, letters, node_behind, own_events
 from tests.test_keeping import RING, SYSTEM, TIGHT, with_truths
 from tests.test_wholes import FILL, GET, PAY, ROUND
 from truestandins.pacts import behind, first_more, least_pact
@@ -404,6 +404,21 @@ class Shows(unittest.TestCase):
                         if other[:3] not in [kept[:3] for kept in found[-1]]:
                             table = tuple(sorted(found[-1][:at] + (other,) + found[-1][at + 1:]))
                             self.no(system, wire, found[:-1] + (table,))
+
+    def test_nodes_behind_those_that_are_broken(self):
+        # weakest does not tell them, but they are nodes.
+        added = 0
+        for system, wire, found in self.cases:
+            known = [row[:3] for row in found[-1]]
+            for row in [row for row in found[-1] if row[3] == 0][:4]:
+                for letter in letters(system, wire, row[:3]):
+                    node = node_behind(system, wire, row[:3], letter)
+                    broken = None in [later for _, later in own_events(system, wire, node)]
+                    if node not in known:
+                        table = tuple(sorted(found[-1] + (node + (0,),)))
+                        self.assertIs(shows_weakest(system, wire, found[:-1] + (table,)), broken)
+                        added += broken
+        self.assertGreater(added, 5)
 
     def test_another_pact(self):
         for system, wire, found in self.cases:

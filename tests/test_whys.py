@@ -223,6 +223,44 @@ def rebuilt(tree, leaf):
     return leaf
 
 
+class TwoCalls(unittest.TestCase):
+    """a makes two calls: x 0 is right, x 1 leads b to an ask that is not let, though it may answer, too."""
+
+    system = System(
+        "worths 2\npart a\n  port p\n  door go\n    ask p x it\n    answer it\npart b\n  cell n 0\n  port q\n  door x\n"
+        "    draw n\n    if it = n\n      ask q y it\n    answer it\npart c\n  door y\n    answer it\nwire a p b\n  state 0\n"
+        "    x any -> any 0\nwire b q c\n  state 0\n    y 0 -> any 0\nouter a\n  state 0\n    go 0 -> any 1\n    go 1 -> 0 0\n"
+        "  state 1")
+    go = ((("", "a"), "call", "go", 1), (WAY, "call", "x", 1))
+    ask = ((WAY, "call", "x", 1), (("b", "q"), "call", "y", 1))
+
+    def shows(self, tree):
+        return shows_why_not(self.system, WAY, (), (), tree)
+
+    def test_the_call_that_is_bad_is_told(self):
+        tree = ("makes", self.go, ("breaks", "b", self.ask))
+        plain = Plain(self.system, WAY)
+        behind = plain.nexts[plain.first]
+        self.assertEqual([plain.ranks[node] for node in (plain.first, behind["x", 0], behind["x", 1])], [1, None, 0])
+        self.assertEqual(why_not(self.system, WAY, (), ()), tree)
+        self.assertIs(self.shows(tree), True)
+
+    def test_a_tree_that_goes_on_where_b_may_break(self):
+        given = ((WAY, "call", "x", 1), (WAY, "answer", 1))
+        back = self.go + ((WAY, "answer", 1), (("", "a"), "answer", 1))
+        self.assertIs(self.shows(("makes", self.go, ("gives", given, ("breaks", "a", back)))), True)
+        for run in (self.ask + given[1:], self.ask[:1] * 2 + given[1:], self.ask, self.ask + self.ask[1:] + given[1:]):
+            self.assertIs(self.shows(("makes", self.go, ("gives", run, ("breaks", "a", back)))), False)
+        for run in (back[:-1], self.go, back[:1], back + back[-1:]):
+            self.assertIs(self.shows(("makes", self.go, ("gives", given, ("breaks", "a", run)))), False)
+
+    def test_a_call_or_an_answer_over_the_wire_breaks_nothing(self):
+        given = ((WAY, "call", "x", 1), (WAY, "answer", 1))
+        self.assertIs(self.shows(("breaks", "a", self.go)), False)
+        for name, run in (("b", given), ("a", self.go), ("b", self.ask[:1]), ("c", ()), ("b", self.ask[1:])):
+            self.assertIs(self.shows(("makes", self.go, ("breaks", name, run))), False)
+
+
 class Errors(unittest.TestCase):
     calls = (why_not, lambda system, wire, word, more: shows_why_not(system, wire, word, more, None))
 

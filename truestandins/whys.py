@@ -65,16 +65,13 @@ def letters_of_more(more):
 
 
 def first_bad(nodes, ranks, letters):
-    """The least of these letters, from the first one on, that lead to a bad node, None if none does."""
+    """The fewest of these letters, from the first one on, that lead to a bad node or to none, None if all are let."""
     node = nodes.first()
-    for many in range(len(letters) + 1):
-        if ranks[node] != NOT_BAD:
+    for many, letter in enumerate(letters):
+        if ranks[node] != NOT_BAD or letter not in nodes.letters(node):
             return letters[:many]
-        if many < len(letters):
-            if letters[many] not in nodes.letters(node):
-                return letters[:many + 1]
-            node = nodes.behind(node, letters[many])
-    return None
+        node = nodes.behind(node, letter)
+    return None if ranks[node] == NOT_BAD else letters
 
 
 def tree_of(nodes, ranks, letters):
@@ -138,10 +135,9 @@ def moves_along(side, letters, ends, member):
     found = []
     for event, later in side.bench.moves(scene):
         over = event[0] == side.wire
-        last = at == len(letters) and scene[3] != () and (over or later == ())
-        if last and ends(event):
+        if at == len(letters) and (over or later == ()) and ends(event):
             found.append((event, ()))
-        elif over and at < len(letters) and event == event_of(side.wire, letters[at]):
+        elif at < len(letters) and event == event_of(side.wire, letters[at]):
             found.append((event, (at + 1, later)))
         elif not over and later != ():
             found.append((event, (at, later)))
