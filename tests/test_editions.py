@@ -208,25 +208,35 @@ class Within(unittest.TestCase):
 
 
 class ManyPairs(unittest.TestCase):
-    def test_many_pairs(self):
-        # Three cells of four worths and an ask at which it is worth one of four: less than 4000 inners of one part;
-        # beside those of the elder there are far more pairs.
-        elder = Part(4, "cell a 0\ncell b 0\ncell c 0\ndoor s\n  if a = 0\n    set a it\n  else\n    if b = 0\n      set b it\n"
-                        "    else\n      set c it\n  answer 0\ndoor t\n  set a 0\n  answer 0\ndoor u\n  set b 0\n  answer 0")
-        newer = Part(4, "cell a 0\ncell b 0\ncell c 0\ndoor s\n  set c b\n  set b a\n  set a it\n  answer 0\ndoor t\n"
-                        "  add a 1\n  answer 0\ndoor u\n  add b 1\n  answer 0")
-        pairs, events = plain_within(elder, newer)
-        self.assertIsNone(events)
-        self.assertGreater(len(pairs), 4000 - 3000)
-        found = told(lambda: within(elder, newer))
-        if len(pairs) > 4000:
-            self.assertEqual(found, ("TooMany", 4000))
-        else:
-            self.assertEqual(found, ("within", tuple(sorted(pairs))))
-        self.assertIs(shows_within(elder, newer, ("within", tuple(sorted(pairs)))), True)
-        # A short row is told all the same.
-        worse = Part(4, newer.text.replace("door u\n  add b 1\n  answer 0", "door u\n  answer 1"))
-        self.assertEqual(len(within(elder, worse)[1]), 2)
+    """A newer part that counts calls by each door, and an elder one that adds up their worths."""
+
+    def parts(self, doors):
+        texts = []
+        for adds in ("1", "it"):
+            rows = [f"cell {cell} 0" for cell in "abc"[:len(doors)]]
+            for cell, door in zip("abc", doors):
+                rows += [f"door {door}", f"  add {cell} {adds}", "  answer 0"]
+            texts.append(Part(4, "\n".join(rows)))
+        return texts[1], texts[0]
+
+    def every(self, doors):
+        inners = [(cells, ()) for cells in product(range(4), repeat=len(doors))]
+        return tuple(sorted((inner, (other,)) for inner in inners for other in inners))
+
+    def test_256_pairs_and_4096(self):
+        elder, newer = self.parts("xy")
+        self.assertEqual(within(elder, newer), ("within", self.every("xy")))
+        elder, newer = self.parts("xyz")
+        self.assertEqual(len(self.every("xyz")), 4096)
+        self.assertEqual(told(lambda: within(elder, newer)), ("TooMany", 4000))
+        self.assertIs(shows_within(elder, newer, ("within", self.every("xyz"))), True)
+        self.assertIs(shows_within(elder, newer, ("within", self.every("xyz")[1:])), False)
+
+    def test_a_short_row_among_many_pairs(self):
+        elder, newer = self.parts("xyz")
+        worse = Part(4, newer.text[:-1] + "c")
+        word, row = within(elder, worse)
+        self.assertEqual((word, row), ("beyond", (("call", "z", row[0][2]), ("gives", 1))))
 
 
 class ShowsWithin(unittest.TestCase):
@@ -383,28 +393,19 @@ class Entries(unittest.TestCase):
         self.assertEqual((word, len(rows), table, set(len(run) for _, run in rows)), ("entries", 400, (), {2}))
         self.assertIs(shows_entries(system, "a", worse, (word, rows, table)), True)
 
-
     def test_scenes_of_all_rows_together(self):
-        # From each of two rows 2400 scenes come, and they are others.
-        cells = "cell m 0\ncell n 0\ndoor x\n  add m 1\n  if m = 0\n    add n 1\n  answer 0\ndoor y\n  answer 0"
-        rows = []
-        for state in range(200):
-            rows.append(f"    state {state}\n      x 0 -> 0 {(state + 1) % 100 + state // 100 * 100}")
-            rows[-1] += f"\n      y 0 -> 0 {100 + state}" * (state == 0)
-        text = "worths 4\npart a\n  door x\n    answer 0\n  door y\n    answer 0\nouter a\n" + "\n".join(rows).replace("    state", "  state").replace("      ", "    ")
-        system = System(text)
-        newer = Part(4, cells)
-        scenes, events = plain_from(system.with_part("a", newer), "a", [entry(newer, (0,))])
-        self.assertIsNone(events)
-        self.assertLess(len(scenes), 8000)
-        every = set()
-        for row in rest_rows(system, "a"):
-            every |= plain_from(system.with_part("a", newer), "a", [entry(newer, row)])[0]
-        found = told(lambda: entries(system, "a", newer))
-        if len(every) > 4000:
-            self.assertEqual(found, ("TooMany", 4000))
-        else:
-            self.assertEqual(found[2], tuple(sorted(every)))
+        # A ring of states, and a newer part that counts to 16: from each row others of its numbers come.
+        newer = Part(4, "cell m 0\ncell n 0\ndoor x\n  add m 1\n  if m = 0\n    add n 1\n  answer 0")
+        for many, of_one, of_all in ((50, 2000, 4000), (52, 1040, 4160)):
+            rows = [f"  state {at}\n    x any -> 0 {(at + 1) % many}" for at in range(many)]
+            system = System("worths 4\npart a\n  door x\n    answer 0\nouter a\n" + "\n".join(rows))
+            changed = system.with_part("a", newer)
+            self.assertEqual(len(plain_from(changed, "a", [entry(newer, (0,))])[0]), of_one)
+            scenes, events = plain_from(changed, "a", [entry(newer, (at,)) for at in range(many)])
+            self.assertEqual((len(scenes), events), (of_all, None))
+            value = ("entries", tuple(((at,), ()) for at in range(many)), tuple(sorted(scenes)))
+            self.assertEqual(told(lambda: entries(system, "a", newer)), value if of_all <= 4000 else ("TooMany", 4000))
+            self.assertIs(shows_entries(system, "a", newer, value), True)
 
 
 class ShowsEntries(unittest.TestCase):
