@@ -355,6 +355,35 @@ class Shows(unittest.TestCase):
                     if name != evidence[1]:
                         self.row(DEEP, found, at, (item, word, (evidence[0], name, evidence[2])))
 
+    def test_the_other_end_of_a_wire(self):
+        # Its runs come to the item as well, but the item is not its own event.
+        found = lived(DEEP)
+        tell, go = (("pair", "b"), "call", "tell", 1), (("b", "p"), "call", "go", 1)
+        runs = {(("pair", "b"), 0, "tell", 1): ("b", (tell,)), (("b", "p"), 0, "go", 1): ("c", (go,)),
+                (("b", "p"), 0, "go", 1, 1): ("b", (tell, go, (("b", "p"), "answer", 1)))}
+        for at, (item, word, _) in enumerate(found[1]):
+            if item in runs:
+                name, run = runs[item]
+                self.assertEqual(word, "needed")
+                self.assertEqual([other for other, _ in run_items(DEEP, name, run)][-1], item)
+                for rank in (0, 2, 900):
+                    self.row(DEEP, found, at, (item, word, (rank, name, run)))
+
+    def test_own_events_may_have_any_rank(self):
+        # Behind its answer 1, which no run of the whole comes to, the pair is called once more.
+        outer = ("", "pair")
+        flip = FLIP.with_pact(outer, read_pact(2, "state 0\n  pay 0 -> 0 0, 1 1\nstate 1\n  pay 1 -> any 1"))
+        found = lived(flip)
+        first, later = (outer, 0, "pay", 0, 1), (outer, 1, "pay", 1, 0)
+        evidence = {item: proof for item, word, proof in found[1] if word == "needed"}
+        self.assertEqual(sorted(evidence), [first, later, later[:4] + (1,)])
+        self.assertIn((first, True), run_items(flip, "pair", evidence[later][2]))
+        for ranks in ((0, 0, 0), (7, 0, 3), (0, 7, 7), (900, 1, 0)):
+            told_ranks = dict(zip(sorted(evidence), ranks))
+            rows = tuple((item, word, (told_ranks[item],) + proof[1:] if word == "needed" else proof)
+                         for item, word, proof in found[1])
+            self.assertIs(shows_lived(flip, found[:1] + (rows,) + found[2:]), True)
+
     def test_runs_of_parts_by_spare_items(self):
         # An answer that nobody gives would make the till answer 1; what rests on it shows nothing.
         pact = read_pact(2, "state 0\n  get any -> any 0, lost 0")

@@ -420,6 +420,23 @@ class Shows(unittest.TestCase):
                         added += broken
         self.assertGreater(added, 5)
 
+    def test_a_broken_node_that_others_show_too(self):
+        # a may answer wrongly at once, or behind an ask: so the first node has rank 0, or more than what shows it.
+        system = System(
+            "worths 2\npart a\n  cell n 0\n  port p\n  door go\n    draw n\n    if n = 1\n      ask p x 0\n    answer 0\n"
+            "part b\n  door x\n    answer it\nwire a p b\n  state 0\n    x any -> any 0\nouter a\n  state 0\n    go 0 -> 1 0")
+        wire = ("a", "p")
+        word, table = weakest(system, wire)
+        self.assertEqual((word, len(table), table[0][3]), ("none", 1, 0))
+        first = table[0][:3]
+        call = node_behind(system, wire, first, ("x", 0))
+        answer = node_behind(system, wire, call, 0)
+        for ranks, right in (((0, 1, 0), True), ((2, 1, 0), True), ((900, 5, 0), True), ((1, 1, 0), False), ((2, 2, 0), False),
+                             ((0, 0, 0), False), ((2, 1, 1), False), ((0, None, 0), True), ((2, None, 0), False),
+                             ((-1, 1, 0), False), ((2, -1, 0), False)):
+            rows = [node + (rank,) for node, rank in zip((first, call, answer), ranks) if rank is not None]
+            self.assertIs(shows_weakest(system, wire, ("none", tuple(sorted(rows)))), right, ranks)
+
     def test_another_pact(self):
         for system, wire, found in self.cases:
             if found[0] == "pact":

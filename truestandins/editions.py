@@ -114,7 +114,7 @@ def entry(part, row):
 
 def is_entry(fresh, row, value):
     """Whether any value is the row, and () or a run by which the newer part breaks from there."""
-    if not is_tuple(value, 2) or not is_like(value[0], row) or not isinstance(value[1], tuple):
+    if not is_tuple(value, 2) or not is_like(value[0], row):
         return False
     if value[1] == ():
         return True

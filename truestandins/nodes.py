@@ -54,6 +54,13 @@ class Nodes:
     def shown(self, node):
         return self.users.groups[node[0]], self.offers.groups[node[1]], node[2]
 
+    def is_formed(self, value):
+        """Whether a tuple of three values is what a node is shown with, by its form."""
+        users, offers, call = value
+        if not self.users.is_group(users) or not self.offers.is_group(offers):
+            return False
+        return call == () or call in self.doors
+
     def come(self, most):
         """All nodes to which letters lead from nodes where nothing is broken, and what is behind each."""
         nexts = {self.first(): {}}

@@ -1,5 +1,6 @@
 """The parts at the two ends of a wire, and where each can be behind words over it."""
 
+from truestandins.keeping import are_scenes
 from truestandins.scenes import Bench
 
 
@@ -31,6 +32,10 @@ class Side:
             ]
             self.laters[number, event] = self.number_of(scenes)
         return self.laters[number, event]
+
+    def is_group(self, value):
+        """Whether any value is an ascending tuple of scenes by their form, () of the outside."""
+        return value == () if self.bench is None else are_scenes(self.bench, value)
 
     def number_of(self, scenes):
         """The number of the set of these scenes and of all that come from them."""

@@ -82,13 +82,18 @@ def shows_weakest(system, wire, value):
 
 def ranks_told(nodes, table):
     """The ranks of the nodes in a table, {} if it is no ascending tuple of nodes, each once, with the first one."""
-    if not isinstance(table, tuple) or not all([is_tuple(row, 4) and is_integer(row[3]) for row in table]):
+    if not isinstance(table, tuple) or not all([is_ranked(nodes, row) for row in table]):
         return {}
     wanted = {row[:3]: row[3] for row in table}
     ranks = nodes_wanted(nodes, wanted)
     if len(wanted) < len(table) or len(ranks) < len(wanted) or nodes.first() not in ranks:
         return {}
     return ranks if ascends(table) else {}
+
+
+def is_ranked(nodes, value):
+    """Whether any value is a node with a rank by its form."""
+    return is_tuple(value, 4) and is_integer(value[3]) and nodes.is_formed(value[:3])
 
 
 def nodes_wanted(nodes, wanted):
