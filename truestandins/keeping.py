@@ -36,15 +36,20 @@ def are_scenes(bench, value):
     return isinstance(value, tuple) and all([bench.is_scene(scene) for scene in value]) and ascends(value)
 
 
-def scenes_kept(bench, most):
-    """All scenes of a part that keeps its pacts, as search meets them."""
+def ways_kept(bench, most):
+    """All scenes of a part that keeps its pacts, and how they were met."""
     run, ways = search([bench.first()], lambda scene: bench.moves(scene), most)
     if run:
         raise NotKept(bench.name)
-    return list(ways)
+    return ways
+
+
+def scenes_kept(bench, most):
+    """All scenes of a part that keeps its pacts, as search meets them."""
+    return list(ways_kept(bench, most))
 
 
 def need_kept(system, most):
     """Raises NotKept by the first part that breaks, looking at no more than most scenes of each part."""
     for name in system.parts:
-        scenes_kept(Bench(system, name), most)
+        ways_kept(Bench(system, name), most)

@@ -28,14 +28,25 @@ class Lines:
         """Whether the next line is not indented and begins with this word."""
         return self.words(0)[:1] == [word]
 
-    def below(self):
-        """The lines that belong to the next line, without the blanks by which they are deeper."""
+    def below(self, depth):
+        """The lines that belong to the next line, which stands so deep, without the blanks by which they are deeper."""
+        margin = "  " * (depth + 1)
         rows = []
         for row in self.rows[self.at + 1:]:
-            if not row.startswith("  "):
+            if not row.startswith(margin):
                 break
-            rows.append(row[2:])
+            rows.append(row[len(margin):])
         return rows
+
+    def read_below(self, depth, read):
+        """Reads the text below the next line, which stands so deep, by a function, and steps behind it."""
+        below = self.below(depth)
+        try:
+            found = read("\n".join(below))
+        except BadText as fault:
+            raise BadText(self.at + 1 + fault.value) from None
+        self.at += 1 + len(below)
+        return found
 
     def step(self):
         self.at += 1

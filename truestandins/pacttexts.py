@@ -95,6 +95,13 @@ def worths_of(word, worths):
 
 def answers_of(word, worths):
     """The answers that a word stands for, [] if it stands for none."""
+    answer = answer_of(word, worths)
+    return worths_of(word, worths) if answer is None else [answer]
+
+
+def answer_of(word, worths):
+    """The one answer that a word writes, None if it writes none."""
     if word in ANSWER_WORDS:
-        return [ANSWER_WORDS.index(word) - 2]
-    return worths_of(word, worths)
+        return ANSWER_WORDS.index(word) - 2
+    worth = number(word, worths)
+    return worth if worth >= 0 else None

@@ -1,6 +1,6 @@
 """Systems: parts, the wires between them, and the pacts of the wires."""
 
-from truestandins.errors import BadPact, BadPart, BadText, NoPart, NoWire
+from truestandins.errors import BadPact, BadPart, NoPart, NoWire
 from truestandins.forms import is_name
 from truestandins.lines import Lines
 from truestandins.pacts import is_pact
@@ -71,27 +71,41 @@ class System:
         links[wire] = (self.links[wire][0], pact)
         return System(system_text(self.worths, self.members, links))
 
+    def with_all(self, parts, pacts):
+        """The system with all these parts, by names, and pacts, by wires, put in at once; None unless they fit."""
+        members = {name: parts.get(name, self.members[name]) for name in self.parts}
+        links = {wire: (self.links[wire][0], pacts.get(wire, self.links[wire][1])) for wire in self.links}
+        if not all([self.is_edition(name, part) for name, part in parts.items()]):
+            return None
+        if not all([is_pact(self.worths, pact) for pact in pacts.values()]) or not have_doors(members, links):
+            return None
+        return System(system_text(self.worths, members, links))
+
     def takes_part(self, name, part):
         """Whether any value fits in the place of a part."""
-        if not isinstance(part, Part) or part.worths != self.worths or part.ports != self.members[name].ports:
-            return False
-        for wire in self.wires:
-            offerer, pact = self.links[wire]
-            if offerer == name and not all([door in part.doors for door in self.doors_used(wire, pact)]):
-                return False
-            if wire[0] == name and not has_doors_asked(self.members[offerer], part, wire[1]):
-                return False
-        return True
+        members = {other: part if other == name else self.members[other] for other in self.parts}
+        return self.is_edition(name, part) and have_doors(members, self.links)
+
+    def is_edition(self, name, part):
+        """Whether any value is a Part with the worths and the ports of a part."""
+        return isinstance(part, Part) and part.worths == self.worths and part.ports == self.members[name].ports
 
     def takes_pact(self, wire, pact):
         """Whether any value fits in the place of the pact of a wire."""
         doors = self.members[self.links[wire][0]].doors
         return is_pact(self.worths, pact) and all([row[0] in doors for state in pact for row in state])
 
-    def doors_used(self, wire, pact):
-        """The doors that are asked over a wire, or stand in its pact."""
-        asked = doors_asked(self.members[wire[0]], wire[1]) if wire[0] else []
-        return asked + [row[0] for state in pact for row in state]
+
+def have_doors(members, links):
+    """Whether each offerer has all doors that are asked over its wires, or stand in their pacts."""
+    for wire in links:
+        offerer, pact = links[wire]
+        doors = members[offerer].doors
+        if wire[0] and not has_doors_asked(members[offerer], members[wire[0]], wire[1]):
+            return False
+        if not all([row[0] in doors for state in pact for row in state]):
+            return False
+    return True
 
 
 def doors_asked(part, port):
@@ -116,7 +130,7 @@ def read_members(lines, worths):
         words = lines.words(0)
         lines.need(words[:1] == ["part"] and len(words) == 2 and len(members) < MOST_PARTS)
         lines.need(is_name(words[1]) and words[1] not in members)
-        members[words[1]] = read_below(lines, lambda text: Part(worths, text))
+        members[words[1]] = lines.read_below(0, lambda text: Part(worths, text))
     return members
 
 
@@ -142,18 +156,7 @@ def read_links(lines, worths, members):
 
 
 def read_pact_below(lines, worths, doors):
-    return read_below(lines, lambda text: pact_of_doors(worths, text, doors))
-
-
-def read_below(lines, read):
-    """Reads the text that stands below the next line by a function, and steps behind it."""
-    below = lines.below()
-    try:
-        found = read("\n".join(below))
-    except BadText as fault:
-        raise BadText(lines.at + 1 + fault.value) from None
-    lines.at += 1 + len(below)
-    return found
+    return lines.read_below(0, lambda text: pact_of_doors(worths, text, doors))
 
 
 def system_text(worths, members, links):
