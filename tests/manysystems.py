@@ -15,22 +15,29 @@ SHAPES = (
     ("ab", (("a", "p", "b"), ("b", "p", "a"))), ("abc", (("a", "p", "b"), ("b", "p", "c"), ("c", "p", "a"))),
     ("abc", (("a", "p", "b"), ("b", "p", "a"), ("c", "p", "a"))), ("abc", (("a", "p", "b"), ("b", "p", "c"), ("a", "q", "c"))),
 )
+# Four parts: a line, a diamond, a ring, a ring of two that is asked from outside of it.
+WIDE_SHAPES = (
+    ("abcd", (("a", "p", "b"), ("b", "p", "c"), ("c", "p", "d"))),
+    ("abcd", (("a", "p", "b"), ("a", "q", "c"), ("b", "p", "d"), ("c", "p", "d"))),
+    ("abcd", (("a", "p", "b"), ("b", "p", "c"), ("c", "p", "d"), ("d", "p", "a"))),
+    ("abcd", (("a", "p", "b"), ("b", "p", "c"), ("c", "p", "b"), ("b", "q", "d"))),
+)
 DOORS = ("x", "y")
 
 
-def random_system(seed, loose=0.85, states=2):
+def random_system(seed, loose=0.85, states=2, shapes=SHAPES):
     """A system of one of the shapes; rows and answers are let with this likelihood."""
     draw = Random(seed)
     while True:
         try:
-            return drawn_system(draw, loose, states)
+            return drawn_system(draw, loose, states, shapes)
         except BadText:
             # A part of more than 24 statements.
             continue
 
 
-def drawn_system(draw, loose, states):
-    names, wires = draw.choice(SHAPES)
+def drawn_system(draw, loose, states, shapes):
+    names, wires = draw.choice(shapes)
     doors = {name: DOORS[:draw.randint(1, 2)] for name in names}
     rows = ["worths 2"]
     for name in names:
@@ -108,12 +115,12 @@ def keeps_all(system):
         return False
 
 
-def kept_systems(many, first=0):
+def kept_systems(many, first=0, shapes=SHAPES):
     """So many systems all parts of which keep their pacts."""
     found = []
     seed = first
     while len(found) < many:
-        system = random_system(seed, 0.92)
+        system = random_system(seed, 0.92, shapes=shapes)
         if keeps_all(system):
             found.append(system)
         seed += 1
