@@ -301,6 +301,11 @@ class Shows(unittest.TestCase):
         self.no((JUST, "shop", ZERO_SHOP), ("caught", 1, (((first,), 1), ((called,), 1))))
         self.no((JUST, "shop", ZERO_SHOP), ("caught", 1, (((), -1), ((first,), 1))))
         self.no((JUST, "shop", ZERO_SHOP), ("caught", 1, (((first, called), 1),)))
+        # Where the part is to go on, nobody plays: also if all else fits.
+        for part, scene in ((ZERO_SHOP, called), (SHOP, (((1,), ()),) + called[1:])):
+            other = plain_found_out(SYSTEM.with_part("shop", part), "shop", [(scene,)])
+            self.assertEqual(other[0], "hides")
+            self.no((SYSTEM, "shop", part), other)
         word, table = found_out(SYSTEM, "till", TILL)
         members = [member for member, _ in table]
         self.assertIn((waits[1],), members)

@@ -133,7 +133,7 @@ class Keeper:
         ]
         if not starts:
             raise BadCall((door, worth))
-        inside = lambda moment: [move for move in stage.moves(moment) if move[1] != NOT_LET and move[1][1] != ()]
+        inside = lambda moment: [step for step in stage.moves(moment) if step[1] != NOT_LET and step[1][1] != ()]
         met = search(starts, inside, None)[1]
         moves = [move for moment in met for move in stage.moves(moment)]
         answers = sorted({event[2] for event, later in moves if later != NOT_LET and later[1] == ()})
