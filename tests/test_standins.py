@@ -166,7 +166,7 @@ class Errors(unittest.TestCase):
                     "get 0 once -> 1,0", "get 0 once -> 1 , 0", "get 0 once -> 1, 0, 1, 0", "get 0 once -> 1, ", "get 0 once -> 1,",
                     "get 0 once -> 1, 2", "get 0 once -> 1, Lost", "get  0 once -> 1", " get 0 once -> 1", "get 0 once -> 1 ",
                     "get 0 once => 1", "get 0 once -> 1 0", "get 0 0 once -> 1", "", "get", "  get 0 once -> 1", "else",
-                    "else 0 0", "in order", "get 0 once -> -1", "get 0 once -> 01"):
+                    "else 0 0", "in order", "get 0 once -> -1", "get 0 once -> 01", "get 0", "other 0", "elsewhere 0"):
             self.bad(0 if row != "in order" else 1, row)
             self.bad(1, "in order\n" + row)
             self.bad(1, "get 0 once -> 1\n" + row)

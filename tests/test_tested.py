@@ -1,4 +1,5 @@
 import unittest
+from itertools import product
 from random import Random
 
 from tests import plaintested
@@ -639,6 +640,19 @@ class Shows(unittest.TestCase):
                 other = table + (member,)
             self.no(case, ("passes", other))
         self.assertIs(shows_tested(*case, ("passes", tuple(sorted(set(table) | {(1, waits, ("shop", "get", 0), (), state)})))), True)
+
+    def test_places_and_uses_by_their_form(self):
+        rows = "get 0 once -> 0, 1\nget 1 often -> 1, 0, 1"
+        for order, places in (("", (0,)), ("in order\n", (0, 1))):
+            case = (SYSTEM, till_test(order + rows, "call pay 0"), "standins")
+            table = tested(*case)[1]
+            self.assertEqual(len(table), 5)
+            for place in range(-1, 3):
+                for one, two in product(range(-1, 5), repeat=2):
+                    more = (1, ((), ()), (), (), ((place, (one, two)),))
+                    right = place in places and 0 <= one <= 2 and 0 <= two <= 3
+                    value = ("passes", tuple(sorted(set(table) | {more})))
+                    self.assertIs(shows_tested(*case, value), right, (order, more))
 
     def test_real_members_by_their_form(self):
         case = self.passing[2]
