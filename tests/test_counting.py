@@ -454,6 +454,13 @@ class Shows(unittest.TestCase):
         given = ((waits, full), pay, (GET, -2), (0, 0, 0))
         self.assertIs(shows_asks(SYSTEM, moments[:3] + (tuple(sorted(moments[3] + ((given, 0),))),)), True)
 
+    def test_members_at_rest_have_no_height(self):
+        for shows, ground, found in CASES:
+            for rest in [member for member in members_of(ground) if member[1] == ()]:
+                for height in (0, found[1]):
+                    rows = tuple(sorted(found[3] + ((rest, height),)))
+                    self.assertIs(shows(found[:3] + (rows,)), False)
+
     def test_where_a_further_member_breaks_the_pact(self):
         # No table is closed in which an event that is not let can come.
         strict = SYSTEM.with_pact(PAY, read_pact(2, "state 0\n  pay any -> any 0")).with_pact(GET, read_pact(2, "state 0\n  get any -> any 0"))
