@@ -85,6 +85,15 @@ class Seeing(unittest.TestCase):
         self.assertEqual(keeper.moments, (one,))
         self.assertEqual(keeper.foretold(("", "a"), "told", 0), ((1,), False, False))
 
+    def test_moments_ascend_where_their_order_is_turned_round(self):
+        text = DICE.text.replace("outer a", "  door turn\n    add n 1\nouter a") + "\n    turn 0 -> 0 0"
+        keeper = keeper_of(System(text), SET, answered(SET[0], 0))
+        rests = keeper.moments
+        self.assertEqual([moment[0] for moment in rests], [(((0,), ()),), (((1,), ()),)])
+        keeper.see((SET[0], "call", "turn", 0))
+        keeper.see(answered(SET[0], 0))
+        self.assertEqual(keeper.moments, rests)
+
     def test_events_that_are_not_let_can_come_too(self):
         keeper = keeper_of(TIGHT, *PAID, *NOTHING_LEFT[:2])
         self.assertEqual(keeper.events(), (answered(GET, -1),))
