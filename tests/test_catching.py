@@ -22,6 +22,10 @@ ENDLESS_SHOP = Part(2, "door get\n  answer it\ndoor fill\n  answer 0")
 # Behind the first call it draws which of two worths it gives away on the second one; none of them is let.
 SLY_SHOP = Part(2, "cell n 0\ncell m 0\ndoor get\n  if m = 0\n    set m 1\n    draw n\n    answer it\n  answer n\n"
                    "door fill\n  answer 0")
+# The pacts take it well or ill what a shop answers that draws all its answers: 0 is taken worse than 1.
+DRAWING_SHOP = Part(2, "cell n 0\ndoor get\n  draw n\n  answer n\ndoor fill\n  answer 0")
+WORSE = "state 0\n  get any -> 0 1, 1 2\nstate 1\n  get any -> lost 1\nstate 2\n  get any -> any {}\nstate 3\n  get any -> lost 3"
+FORGIVEN, LATER = [SYSTEM.with_pact(FILL, ((),)).with_pact(GET, read_pact(2, WORSE.format(state))) for state in (2, 3)]
 
 
 def plays_at(system, name, member):
@@ -71,6 +75,7 @@ def some_cases():
     found = [
         (SYSTEM, "shop", SHOP), (SYSTEM, "till", TILL), (JUST, "shop", ZERO_SHOP), (JUST, "shop", LUCKY_SHOP),
         (ONCE, "shop", ENDLESS_SHOP), (ONCE, "shop", SLY_SHOP), (RING, "a", RING.part("a")), (RING, "b", RING.part("b")),
+        (FORGIVEN, "shop", DRAWING_SHOP), (LATER, "shop", DRAWING_SHOP),
     ]
     for seed, system in enumerate(kept_systems(60) + telling_systems(60) + [random_system(seed) for seed in range(80)]):
         draw = Random(seed)
@@ -114,6 +119,24 @@ class FoundOut(unittest.TestCase):
         word, rank, table = found_out(ONCE, "shop", SLY_SHOP)
         self.assertEqual((word, rank), ("caught", 2))
         self.assertIn((2, 1), [(len(scenes), rank) for scenes, rank in table])
+
+    def test_the_greatest_rank_to_which_its_events_lead(self):
+        # Who is told 0 finds it out by the next call; who is told 1 never does, or by two more.
+        word, table = found_out(FORGIVEN, "shop", DRAWING_SHOP)
+        self.assertEqual((word, sorted(set(rank for _, rank in table))), ("hides", [-1, 1]))
+        word, rank, table = found_out(LATER, "shop", DRAWING_SHOP)
+        self.assertEqual((word, rank, sorted(set(rank for _, rank in table))), ("caught", 3, [1, 2, 3]))
+        table = found_out(FORGIVEN, "shop", DRAWING_SHOP)[1]
+        first = (((((0,), ()), (), (), (), (0, 0)),), -1)
+        self.assertIn(first, table)
+        lesser = tuple((row[0], 2) if row == first else row for row in table)
+        self.assertIs(shows_found_out(FORGIVEN, "shop", DRAWING_SHOP, ("caught", 2, lesser)), False)
+
+    def test_by_the_event_that_needs_the_fewest(self):
+        # By get 1 it takes two; by get 0 it would take three, since 1 may be answered.
+        text = WORSE.format(3).replace("get any -> 0 1, 1 2", "get 0 -> 0 1, 1 2\n  get 1 -> 0 1, 1 1")
+        system = SYSTEM.with_pact(FILL, ((),)).with_pact(GET, read_pact(2, text))
+        self.assertEqual(found_out(system, "shop", DRAWING_SHOP)[:2], ("caught", 2))
 
     def test_by_an_answer(self):
         # A till that takes a lost answer for a 1 is found out by pay and lost.

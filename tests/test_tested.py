@@ -418,6 +418,26 @@ class Untrue(unittest.TestCase):
         self.assertEqual(untrue(dice, till_test("get 1 often -> 0, busy\nget 0 often -> 1, busy", *calls)),
                          ("shop", (("get", 0, 1), ("get", 0, -2))))
 
+    def test_of_several_words_to_the_same_place(self):
+        # It asks with what it drew, then with the other worth, which comes back as an answer of the other part.
+        part = Part(2, "cell n 0\nport q\nport p\ndoor x\n  ask q x 0\n  ask q x 1\n  draw n\n  ask p x n\n  ask q x n\n  set n 0\n"
+                       "  ask p x got\n  ask p x 0")
+        below = ("stand in p", "  x any often -> 0", "stand in q", "  x 0 often -> 1", "  x 1 often -> 0")
+        system = TWO.with_part("a", part).with_pact(
+            ("a", "p"), read_pact(2, "state 0\n  x any -> 0 1\nstate 1\n  x any -> 0 2\nstate 2"))
+        self.assertEqual(untrue(system, test_of("part a", *below, "call x 0")), ("p", (("x", 0, 0), ("x", 1, 0), ("x", 0, 0))))
+
+    def test_of_several_letters_to_the_same_place(self):
+        # What it drew comes back as an answer of the other part, with which it asks, and is forgotten behind it.
+        part = Part(2, "cell n 0\nport q\nport p\ndoor x\n  ask q x 0\n  ask q x 1\n  draw n\n  ask q x n\n  set n 0\n  ask p x got\n"
+                       "  ask p x 0\n  answer 0")
+        below = ("stand in p", "  x any often -> 0", "stand in q", "  x 0 often -> 0", "  x 1 often -> 1")
+        test = test_of("part a", *below, "call x 0")
+        for rows, word in (("", (("x", 0, 0),)), ("\n  x 0 -> 1 0\n  x 1 -> 0 0", (("x", 0, 0),)),
+                           ("\n  x any -> 0 1\nstate 1", (("x", 0, 0), ("x", 0, 0)))):
+            system = TWO.with_part("a", part).with_pact(("a", "p"), read_pact(2, "state 0" + rows))
+            self.assertEqual(untrue(system, test), ("p", word))
+
     def test_of_several_ports(self):
         rows = ["stand in p", "  x any often -> busy", "stand in q", "  x any often -> busy", "call x 0"]
         self.assertEqual(untrue(TWO, test_of("part a", *rows)), ("p", (("x", 0, -2),)))
@@ -628,7 +648,7 @@ class Shows(unittest.TestCase):
             (1, still, ("shop", "get", 0), (), state), (1, waits, (), (), state), (1, waits, ("shop", "get", 0), ("call",), state),
             (1, waits, ("bank", "get", 0), (), state), (1, waits, ("shop", "fill", 0), (), state), (1, waits, ("shop", "get", 2), (), state),
             (1, waits, (), ("call",), state), (1, waits, (), ("answer", 2), state), (1, waits, (), ("answer", -3), state),
-            (1, waits, (), ("answer",), state), (1, ((), (3, 0)), ("shop", "get", 0), (), state), (2, still, (), (), ((1, (2,)),)),
+            (1, waits, (), ("answer",), state), (1, waits, (), ("call", 0), state), (1, waits, (), ("Answer", 0), state), (1, ((), (3, 0)), ("shop", "get", 0), (), state), (2, still, (), (), ((1, (2,)),)),
             (2, still, (), (), ((0, (3,)),)), (2, still, (), (), ((0, (-1,)),)), (2, still, (), (), ((0, (2, 0)),)),
             (2, still, (), (), ((0, (2,)), (0, (2,)))), (2, still, (), (), ()), (2, still, (), (), (0,)), (2, still, (), ()),
             (2, ((0,), ()), (), (), state), (1, waits, (("till", "shop"), "get", 0), (), state),
@@ -665,7 +685,8 @@ class Shows(unittest.TestCase):
             (0, (waits, full), (pay, (GET, "fill", 1)), ()), (0, (waits, full), (pay, (GET, "get", 2)), ()),
             (0, (still, empty), (pay,), (GET, 1)), (0, (waits, empty), (pay,), (GET, 2)), (0, (waits, empty), (pay,), (PAY, 1)),
             (0, (waits, empty), (), (GET, 1)), (0, (waits, full), (pay, get), (GET, 1)), (0, (still,), (), ()), (1, (still, full), ()),
-            (1, (full, still), (), ()), (0, (waits, empty), (pay,), (GET, 1), (0, 0, 0)),
+            (1, (full, still), (), ()), (0, (waits, empty), (pay,), (GET, 1), (0, 0, 0)), (1, (waits, full), (pay, get), ()),
+            (1, (waits, empty), (pay,), (GET, 1)),
         ]
         for member in wrong:
             try:
