@@ -36,6 +36,7 @@ class Statements(unittest.TestCase):
     def test_wrong_forms(self):
         for row in ("set", "set a", "set a 0 0", "add", "add a", "add a 1 1", "draw", "draw a 0", "ask", "ask p",
                     "ask p x", "ask p x 0 0", "answer", "answer 0 0", "fail 0", "sets a 0", "Set a 0", "nothing",
+                    "set p x 0", "add p x 0", "draw p x 0", "answer p x it", "fail p x 0", "asks p x 0", "p x 0",
                     "cell b 0", "port q", "door y", "set a = 0", "answer lost", "answer busy", "answer -1", "a"):
             self.assertEqual(fault_of_statement("  " + row), (3, 4), row)
 
