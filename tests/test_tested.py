@@ -699,6 +699,23 @@ class Shows(unittest.TestCase):
         self.assertIs(shows_tested(*case, ("passes", tuple(sorted(set(table) | more)))), True)
         self.no(case, ("passes", tuple(sorted(set(table) | {(0, (waits, full), (pay,), (GET, 0))}))))
 
+    def test_the_call_of_the_test_is_the_first_of_the_stack(self):
+        # What comes behind the call of another test is closed as well, but stands in no table of this one.
+        stand_in = "get any often -> 0"
+        one, other = till_test(stand_in, "call pay 1"), till_test(stand_in, "call pay 0")
+        tables = [tested(SYSTEM, test, "real")[1] for test in (one, other)]
+        both = tuple(sorted(set(tables[0]) | set(tables[1])))
+        self.assertGreater(len(both), len(tables[0]))
+        for test, table in zip((one, other), tables):
+            self.assertIs(shows_tested(SYSTEM, test, "real", ("passes", table)), True)
+            self.assertIs(shows_tested(SYSTEM, test, "real", ("passes", both)), False)
+        # Behind the same calls in another sequence, by what was answered so far.
+        calls = ("call pay 1", "call pay 0")
+        one, other = till_test(stand_in, *calls), till_test(stand_in, *calls[::-1])
+        self.assertEqual([tested(SYSTEM, test, "real")[0] for test in (one, other)], ["passes"] * 2)
+        both = tuple(sorted(set(tested(SYSTEM, one, "real")[1]) | set(tested(SYSTEM, other, "real")[1])))
+        self.assertIs(shows_tested(SYSTEM, one, "real", ("passes", both)), False)
+
     def test_longer_runs(self):
         dice = SYSTEM.with_part("till", Part(2, "cell n 0\nport shop\ndoor pay\n  draw n\n  if n = 0\n    fail\n  ask shop get 0\n  fail"))
         case = (dice, till_test("get any often -> 0", "call pay 0 -> any"), "standins")

@@ -31,7 +31,7 @@ class Tester:
                     fitting = behind.setdefault(own, {})
                     if later != NOT_LET:
                         fitting[later] = True
-        return [[tuple(sorted(fitting)) for fitting in behind.values()] for behind in plays.values()]
+        return [[tuple(sorted(scenes)) for scenes in laters.values()] for laters in plays.values()]
 
     def is_member(self, value):
         """Whether any value is a member by its form: its scenes differ by inner alone."""

@@ -5,7 +5,7 @@ What is open stands second in scenes and in moments: the calls that are not answ
 
 from truestandins.errors import NotKept
 from truestandins.forms import ascends, is_below, is_integer, is_tuple
-from truestandins.keeping import need_kept, ways_kept
+from truestandins.keeping import ways_kept
 from truestandins.moments import Stage
 from truestandins.rings import heights_among, ring_among
 from truestandins.scenes import NOT_LET, Bench
@@ -186,7 +186,6 @@ def is_endless(asking, run, ring):
 
 def bound(system):
     """For each outer wire a number of asks that no call over it sets off more than, None if there is none."""
-    need_kept(system, MOST_MEMBERS)
     results = {name: most(system, name) for name in system.parts}
     endless = "endless" in [results[name][0] for name in system.parts]
     return tuple([

@@ -34,10 +34,10 @@ class Trial:
 
     def __init__(self, keeper):
         self.keeper = keeper
-        self.kept = False
+        self.kept = None
 
     def __enter__(self):
-        self.kept = False
+        self.kept = None
         self.points = self.keeper.points
         self.undone = self.keeper.undone
         self.system = self.keeper.system
@@ -51,7 +51,7 @@ class Trial:
         self.kept = True
 
     def __exit__(self, kind, value, trace):
-        if not (self.kept and kind is None):
+        if self.kept is None or kind is not None:
             self.keeper.points = self.points
             self.keeper.undone = self.undone
             self.keeper.system = self.system

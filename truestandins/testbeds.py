@@ -24,9 +24,9 @@ class PactIn:
         """All (answer to a call, state behind it), none if the call is not let."""
         return outcomes_of(self.states[state], door, worth)
 
-    def is_done(self, state):
+    def is_done(self, _):
         """No row of a pact has to be used."""
-        return self.has_state(state)
+        return True
 
     def has_state(self, value):
         return is_below(value, len(self.states))
